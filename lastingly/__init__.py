@@ -1,0 +1,1 @@
+"""Lastingly: a house of things that wear."""
