@@ -120,6 +120,8 @@ class Files(unittest.TestCase):
             if isinstance(node, ast.Name) and hasattr(builtins, node.id):
                 self.assertIn(node.id, BUILTINS, place)
                 self.assertIsInstance(node.ctx, ast.Load, place)
+            if isinstance(node, ast.arg):
+                self.assertFalse(hasattr(builtins, node.arg), place)
 
     def test_methods_of_values(self):
         for place, node in self.nodes:
