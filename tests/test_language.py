@@ -42,6 +42,25 @@ WORDS_NOT_USED = re.compile(
     r"\b(typing|typing_extensions|enum|Enum|IntEnum|StrEnum|Flag|IntFlag|Generic|Protocol|ABC|ABCMeta|namedtuple"
     r"|NamedTuple|TypedDict|TYPE_CHECKING|abstractmethod)\b|dataclass|overload|contextmanager|_wall|_WallAttr")
 
+BEGINNINGS_NOT_USED = re.compile(
+    r"__|_(wall|pe_|dcw_|enum_|cm_|twin_re_|lay_|law_|stub_|sre|WallAttr)"
+    r"|_(cold|tuplegetter|outside|record|written_out|member_names)[0-9_]*$")
+
+
+def names_bound(tree):
+    """The names that a file's functions give to their parameters, variables and nested functions."""
+    found = set()
+    for function in ast.walk(tree):
+        if isinstance(function, ast.FunctionDef):
+            for node in ast.walk(function):
+                if isinstance(node, ast.Name) and not isinstance(node.ctx, ast.Load):
+                    found.add(node.id)
+                elif isinstance(node, ast.arg):
+                    found.add(node.arg)
+                elif isinstance(node, (ast.MatchAs, ast.MatchStar, ast.ExceptHandler)) and node.name:
+                    found.add(node.name)
+    return found
+
 
 def files_of_package():
     """The path of each file of the package, beside what Python itself may leave there."""
@@ -134,6 +153,48 @@ class Files(unittest.TestCase):
         for place, node in self.nodes:
             for field in ("id", "arg", "name"):
                 self.assertNotIn(getattr(node, field, None), NAMES_NOT_USED, place)
+
+    def test_beginnings_of_names(self):
+        for path, text in self.files:
+            for name in names_bound(ast.parse(text)):
+                self.assertIsNone(BEGINNINGS_NOT_USED.match(name), path)
+        for place, node in self.nodes:
+            if isinstance(node, (ast.FunctionDef, ast.ClassDef)) and node.name != "__init__":
+                self.assertIsNone(BEGINNINGS_NOT_USED.match(node.name), place)
+
+    def test_no_variable_has_the_name_of_an_import_a_class_or_a_function(self):
+        for path, text in self.files:
+            tree = ast.parse(text)
+            named = {alias.name for node in tree.body if isinstance(node, ast.ImportFrom) for alias in node.names}
+            named |= {node.name for node in tree.body if isinstance(node, (ast.ClassDef, ast.FunctionDef))}
+            self.assertEqual(names_bound(tree) & named, set(), path)
+
+    def test_values_at_module_level_are_literals_and_functions(self):
+        for path, text in self.files:
+            tree = ast.parse(text)
+            functions = {node.name for node in tree.body if isinstance(node, ast.FunctionDef)}
+            for node in tree.body:
+                if isinstance(node, ast.Assign):
+                    names = {part.id for part in ast.walk(node.value) if isinstance(part, ast.Name)}
+                    self.assertLessEqual(names, functions, f"{path}:{node.lineno}")
+
+    def test_no_module_imports_itself_by_others(self):
+        imports = {os.path.basename(path)[:-3]: {
+            node.module.removeprefix("lastingly.") for node in ast.parse(text).body
+            if isinstance(node, ast.ImportFrom) and node.module not in LIBRARY} for path, text in self.files}
+        while imports:
+            free = [name for name, others in imports.items() if not others & set(imports)]
+            self.assertNotEqual(free, [], sorted(imports))
+            for name in free:
+                del imports[name]
+
+    def test_what_is_iterated_once_is_not_kept(self):
+        for place, node in self.nodes:
+            if isinstance(node, (ast.Assign, ast.Return)) and isinstance(node.value, ast.Call):
+                function = node.value.func
+                name = getattr(function, "id", getattr(function, "attr", None))
+                self.assertNotIn(name, ("zip", "enumerate", "reversed", "range", "map", "items", "keys", "values"), place)
+            self.assertNotIsInstance(node, (ast.GeneratorExp, ast.Yield, ast.YieldFrom, ast.Set, ast.SetComp), place)
 
 
 if __name__ == "__main__":

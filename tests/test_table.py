@@ -2,12 +2,12 @@
 
 import random
 import unittest
-from fractions import Fraction
 
 from lastingly import table
 from lastingly.archive import Archive
 from lastingly.errors import OutOfPlace
 from lastingly.table import extreme_wear, wear_at
+from reckoning import pair, table_wear
 
 ROOMS = [("hall", 1, (), ((0, 1, 1),), ())]
 KINDS = [
@@ -21,26 +21,6 @@ KINDS = [
 ]
 ARCHIVE = Archive(KINDS, ROOMS, [], [], [])
 NO_NUMBERS = (None, True, False, "", "5", b"5", 5.0, [5], (5,), {}, -1, object())
-
-
-def between(points, worths, at):
-    """The document's reckoning along one line."""
-    at = min(max(at, points[0]), points[-1])
-    for place, point in enumerate(points):
-        if point == at:
-            return Fraction(worths[place])
-    place = max(place for place, point in enumerate(points) if point < at)
-    u, v, p, q = points[place], points[place + 1], worths[place], worths[place + 1]
-    return p + (q - p) * Fraction(at - u, v - u)
-
-
-def reckoned(kind, warmth, wet):
-    _, _, warmths, wets, lines = kind
-    return between(warmths, [between(wets, parts, wet) for parts in lines], warmth)
-
-
-def pair(fraction):
-    return fraction.numerator, fraction.denominator
 
 
 class Wear(unittest.TestCase):
@@ -105,7 +85,7 @@ class Wear(unittest.TestCase):
         for kind in KINDS:
             for warmth in range(41):
                 for wet in range(101):
-                    self.check(kind[0], warmth, wet, pair(reckoned(kind, warmth, wet)))
+                    self.check(kind[0], warmth, wet, pair(table_wear(kind, warmth, wet)))
 
     def test_a_tuple_of_whole_numbers(self):
         for warmth, wet in ((10, 20), (15, 25), (0, 100)):
@@ -119,7 +99,7 @@ class Extremes(unittest.TestCase):
         self.assertEqual(extreme_wear(ARCHIVE, kind, warmths, wets), fractions)
 
     def check_reckoned(self, kind, warmths, wets):
-        all_of_them = [reckoned(kind, warmth, wet) for warmth in range(warmths[0], warmths[1] + 1)
+        all_of_them = [table_wear(kind, warmth, wet) for warmth in range(warmths[0], warmths[1] + 1)
                        for wet in range(wets[0], wets[1] + 1)]
         self.check(kind[0], warmths, wets, pair(min(all_of_them)), pair(max(all_of_them)))
 
