@@ -10,7 +10,7 @@ from lastingly.keeper import Keeper
 from lastingly.looking import look_through
 from lastingly.story import stretches, worn_share
 from made import made, made_event, may
-from reckoning import row_of, stretches_of
+from reckoning import pair, row_of, span, stretches_of
 
 LAST = 1000000000
 KINDS = [
@@ -100,7 +100,7 @@ class Made(unittest.TestCase):
                 Keeper(archive, hour)
             self.assertEqual(caught.exception.room, room)
         # Mended behind, the share lacks nothing, but a stretch does.
-        self.assertEqual(worn_share(archive, "bow", 50), worn_share(archive, "bow", 50))
+        self.assertEqual(worn_share(archive, "bow", 50), pair(span(archive, "wood", "hall", "", 9, 50) / 1000))
         self.assertEqual(Keeper(archive, 3).share_of("saw"), (7, 20))
 
     def test_no_things(self):
@@ -235,12 +235,12 @@ class Deeds(unittest.TestCase):
 
     def test_chance_deeds(self):
         chance = random.Random(90)
-        for _ in range(25):
-            archive = made(chance, gaps=2, things=4)
+        for _ in range(40):
+            archive = made(chance, gaps=chance.choice((0, 0, 1)), things=4)
             try:
                 self.held = Keeper(archive, chance.randint(0, 100))
             except Lacking:
-                continue
+                self.held = Keeper(archive, 0)
             states = []
             for _ in range(25):
                 self.chance_deed(chance, states)
